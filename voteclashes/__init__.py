@@ -1,0 +1,1 @@
+"""Voteclashes: any rule of choosing by rankings, and which axioms go together."""
