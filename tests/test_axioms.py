@@ -1,16 +1,9 @@
 import unittest
-from itertools import combinations, permutations
 
-from tests.helper import SIZES, WRONG, row_of
+from tests.helper import AXIOMS, WRONG, all_rules, expected_row, row_of, rules_near_told
 from voteclashes.axioms import axioms, breaking_row, keeps, profile
 from voteclashes.errors import BadAxiom, BadRule
-from voteclashes.rows import rows
-from voteclashes.rules import names, size, told_rule
-
-AXIOMS = (
-    "agreed", "beats", "best", "bottom", "growing", "noboss", "open",
-    "pairs", "people", "things", "tops", "truthful", "turned",
-)
+from voteclashes.rules import names, told_rule
 
 ALL_BUT_TWO = "agreed beats best bottom growing open pairs things tops truthful turned"
 EVEN = "agreed beats best bottom growing noboss open pairs people tops truthful"
@@ -40,145 +33,6 @@ PROFILES = {
         "pair": ONE_OF_THREE, "ranks": " ".join(AXIOMS), "third": " ".join(AXIOMS),
     },
 }
-
-# The document's own lists: a told rule keeps each set that no longer one can hold
-# with, so what lies in no told rule's profile must be just the clashes given here.
-CLASHES = {
-    (2, 2): """people things; people turned; agreed noboss things; agreed noboss turned; beats noboss things;
-        beats noboss turned; best noboss things; best noboss turned; bottom noboss things; bottom noboss turned;
-        growing noboss things; growing noboss turned; noboss things truthful; noboss truthful turned""",
-    (2, 3): """people turned; agreed noboss pairs; agreed noboss truthful; agreed pairs people;
-        agreed people truthful; beats noboss pairs; beats noboss truthful; beats pairs people;
-        beats people truthful; best noboss pairs; best noboss truthful; best pairs people; best people things;
-        best people truthful; bottom people things; growing people things; noboss open truthful;
-        noboss things truthful; open pairs people; open people truthful; pairs people things;
-        people things truthful; agreed noboss tops turned; beats noboss tops turned; best noboss things tops;
-        best noboss tops turned; bottom noboss open pairs; bottom noboss pairs things; bottom noboss pairs tops;
-        bottom noboss things tops; bottom noboss tops truthful; bottom noboss tops turned;
-        bottom pairs people tops; bottom people tops truthful; growing noboss open pairs;
-        growing noboss pairs things; growing noboss things tops; growing noboss tops turned;
-        noboss open pairs tops; noboss pairs things tops; noboss pairs tops turned;
-        noboss things tops turned; noboss tops truthful turned""",
-    (3, 2): "",
-}
-
-
-def with_ranking(row, person, ranking):
-    return row[:person] + (ranking,) + row[person + 1:]
-
-
-def raised(ranking, thing):
-    """All rankings in which the thing stands further ahead, all others keeping their order."""
-    others = [item for item in ranking if item != thing]
-    return [tuple(others[:at] + [thing] + others[at:]) for at in range(ranking.index(thing))]
-
-
-def agreed_so(table, row):
-    return any(ranking[0] != row[0][0] for ranking in row) or table[row] == row[0][0]
-
-
-def majority(row, thing, other):
-    return sum(1 if ranking.index(thing) < ranking.index(other) else -1 for ranking in row) > 0
-
-
-def beats_so(table, row):
-    winners = [one for one in row[0] if all(one == two or majority(row, one, two) for two in row[0])]
-    return not winners or table[row] in winners
-
-
-def best_so(table, row):
-    shared = set(row[0])
-    for ranking in row:
-        shared &= set(ranking[:ranking.index(table[row])])
-    return not shared
-
-
-def bottom_so(table, row):
-    last = sum(1 if ranking[-1] == table[row] else -1 for ranking in row)
-    return last <= 0
-
-
-def growing_so(table, row):
-    return all(
-        table[with_ranking(row, person, better)] == table[row]
-        for person in range(len(row)) for better in raised(row[person], table[row])
-    )
-
-
-def pairs_so(table, row):
-    for other in table:
-        one, two = table[row], table[other]
-        if one != two:
-            now = [one if ranking.index(one) < ranking.index(two) else two for ranking in row]
-            then = [one if ranking.index(one) < ranking.index(two) else two for ranking in other]
-            if now == then:
-                return False
-    return True
-
-
-def people_so(table, row):
-    return all(table[other] == table[row] for other in permutations(row))
-
-
-def things_so(table, row):
-    return all(
-        table[tuple(tuple(new[item] for item in ranking) for ranking in row)] == new[table[row]]
-        for new in permutations(range(len(row[0])))
-    )
-
-
-def tops_so(table, row):
-    tops = [ranking[0] for ranking in row]
-    return all(table[other] == table[row] for other in table if [ranking[0] for ranking in other] == tops)
-
-
-def truthful_so(table, row):
-    for person, ranking in enumerate(row):
-        liked = ranking[:ranking.index(table[row])]
-        if any(table[with_ranking(row, person, told)] in liked for told in permutations(ranking)):
-            return False
-    return True
-
-
-def turned_so(table, row):
-    return table[tuple(tuple(reversed(ranking)) for ranking in row)] != table[row]
-
-
-SO_AT = {
-    "agreed": agreed_so, "beats": beats_so, "best": best_so, "bottom": bottom_so, "growing": growing_so,
-    "pairs": pairs_so, "people": people_so, "things": things_so, "tops": tops_so, "truthful": truthful_so,
-    "turned": turned_so,
-}
-
-
-def expected_row(rule, axiom):
-    """The least row at which a rule breaks an axiom, worked out by trying what the document names."""
-    people, things = size(rule)
-    table = dict(zip(rows(people, things), rule))
-    if axiom == "noboss":
-        bossed = any(all(row[person][0] == table[row] for row in table) for person in range(people))
-        return () if bossed else None
-    if axiom == "open":
-        return None if set(rule) == set(range(things)) else ()
-    return next((row for row in sorted(table) if not SO_AT[axiom](table, row)), None)
-
-
-def all_rules(people, things):
-    many = len(rows(people, things))
-    return [tuple(number >> at & 1 for at in range(many)) for number in range(2 ** many)]
-
-
-def rules_near_told():
-    """Rules for 2 people and 3 things that differ from a told one at one row, or at two."""
-    found = []
-    for at, name in enumerate(names()):
-        for first in range(at % 2, 36, 2):
-            rule = list(told_rule(name, 2, 3))
-            rule[first] = (rule[first] + 1 + first % 2) % 3
-            found.append(tuple(rule))
-            rule[35 - first] = (rule[35 - first] + 1) % 3
-            found.append(tuple(rule))
-    return found
 
 
 class AxiomsTests(unittest.TestCase):
@@ -327,18 +181,6 @@ class ProfileTests(unittest.TestCase):
     def test_profile_is_what_is_kept(self):
         for rule in all_rules(2, 2) + all_rules(3, 2)[::7]:
             self.assertEqual(profile(rule), tuple(axiom for axiom in AXIOMS if keeps(rule, axiom)))
-
-    def test_document_lists_of_clashes(self):
-        for pair in SIZES:
-            kept = [set(profile(told_rule(name, *pair))) for name in names()]
-            clashes = []
-            for many in range(len(AXIOMS) + 1):
-                for wanted in combinations(AXIOMS, many):
-                    held = any(set(wanted) <= known for known in kept)
-                    if not held and not any(set(clash) <= set(wanted) for clash in clashes):
-                        clashes.append(wanted)
-            told = [tuple(words.split()) for words in CLASHES[pair].split(";") if words]
-            self.assertEqual(clashes, told)
 
 
 class WrongTests(unittest.TestCase):

@@ -6,9 +6,15 @@ from pathlib import Path
 
 from tests.helper import SIZES, WRONG
 from voteclashes.axioms import axioms, breaking_row, keeps, profile
-from voteclashes.errors import VoteError
+from voteclashes.desks import Desk
+from voteclashes.errors import BadAxioms, BadPerson, BadRow, BadRule, BadSize, NotAlike, VoteError
+from voteclashes.maps import (
+    can_add, can_hold, clashes, count_rules, greatest_sets, least_clashes, some_rule,
+)
+from voteclashes.papers import paper, shows_clash
 from voteclashes.rows import beats_all, place_sums, rankings, rows
 from voteclashes.rules import bosses, choice, lies, names, size, told_rule
+from voteclashes.texts import read_row, read_rule, write_row, write_rule
 
 PACKAGE = Path(__file__).resolve().parent.parent / "voteclashes"
 
@@ -20,7 +26,27 @@ INTERFACE = {
     "rows": ("rankings", "rows", "place_sums", "beats_all"),
     "rules": ("size", "bosses", "lies", "names", "choice", "told_rule"),
     "axioms": ("axioms", "profile", "keeps", "breaking_row"),
+    "maps": (
+        "can_hold", "some_rule", "can_add", "greatest_sets", "least_clashes", "clashes", "count_rules",
+    ),
+    "papers": ("paper", "shows_clash"),
+    "texts": ("write_row", "write_rule", "read_row", "read_rule"),
+    "desks": ("Desk",),
 }
+
+
+def is_paper_of_none(people, things, wanted):
+    """A paper may be any value, so only the other arguments of shows_clash can be wrong."""
+    return shows_clash(people, things, wanted, ())
+
+
+def run_line(line):
+    return Desk(2, 3).run(line)
+
+
+def start_desk(people, things):
+    return Desk(people, things).row
+
 
 # Each function with valid arguments, so that one at a time can be put wrong.
 CALLS = (
@@ -36,7 +62,28 @@ CALLS = (
     (keeps, ((0, 0, 0, 1), "things")),
     (breaking_row, ((0, 0, 0, 1), "things")),
     (profile, ((0, 0, 0, 1),)),
+    (can_hold, (2, 3, ("open",))),
+    (some_rule, (2, 3, ("open",))),
+    (can_add, (2, 3, ("open",))),
+    (clashes, (2, 3, ("people", "turned"))),
+    (greatest_sets, (2, 3)),
+    (least_clashes, (2, 3)),
+    (count_rules, (2, 2, ("open",))),
+    (paper, (2, 3, ("people", "turned"))),
+    (is_paper_of_none, (2, 3, ("people", "turned"))),
+    (write_row, (((0, 1), (0, 1)),)),
+    (write_rule, ((0, 0, 0, 1),)),
+    (read_row, ("012 210",)),
+    (read_rule, ("0110",)),
+    (run_line, ("lies most 1",)),
+    (start_desk, (2, 3)),
 )
+
+# A few of the values that are wrong elsewhere are right here, as the last argument.
+RIGHT = {
+    can_hold: [()], some_rule: [()], can_add: [()], clashes: [()], count_rules: [()], paper: [()],
+    is_paper_of_none: [()], read_row: ["01 10"],
+}
 
 
 def sources():
@@ -63,13 +110,25 @@ class InterfaceTests(unittest.TestCase):
             self.assertIs(type(choice(rule, row)), int)
             self.assertIs(type(beats_all(rows(*pair)[0])), int)
             self.assertIs(type(keeps(rule, "open")), bool)
+            for value in (some_rule(*pair, ("open",)), can_add(*pair, ()), greatest_sets(*pair), least_clashes(*pair),
+                          clashes(*pair, ()), read_row(write_row(row)), read_rule(write_rule(rule)), Desk(*pair).row):
+                self.assertIs(type(value), tuple)
+            self.assertIs(type(can_hold(*pair, ())), bool)
+            self.assertIs(type(shows_clash(*pair, (), ())), bool)
+            for value in (write_row(row), write_rule(rule), Desk(*pair).run("most"), Desk(*pair).run("row")):
+                self.assertIs(type(value), str)
+
+    def test_desk_defines_its_own_methods(self):
+        self.assertLessEqual({"run", "undo", "row"}, set(Desk.__dict__))
+        self.assertIsInstance(Desk.__dict__["row"], property)
 
 
 class ArgumentTests(unittest.TestCase):
     def test_any_value_gives_an_error_of_the_package(self):
         for call, arguments in CALLS:
+            right = RIGHT.get(call, [])
             for at in range(len(arguments)):
-                for value in WRONG:
+                for value in [value for value in WRONG if at < len(arguments) - 1 or value not in right]:
                     with self.subTest(call=call.__name__, at=at, value=value):
                         given = arguments[:at] + (copy.deepcopy(value),) + arguments[at + 1:]
                         self.assertRaises(VoteError, call, *given)
@@ -84,6 +143,20 @@ class ArgumentTests(unittest.TestCase):
             for at in range(len(arguments)):
                 self.assertRaises(VoteError, call, *arguments[:at], deep, *arguments[at + 1:])
                 self.assertRaises(VoteError, call, *arguments[:at], round_list, *arguments[at + 1:])
+
+    def test_the_first_invalid_argument_gives_the_error(self):
+        row, rule = ((0, 1), (0, 1)), (0, 0, 0, 1)
+        for error, call, arguments in (
+            (BadSize, can_hold, (2, 5, ("open", "open"))), (BadSize, paper, (None, 3, None)),
+            (BadSize, some_rule, (2, [], [])), (BadSize, clashes, ({}, 2, ("fair",))),
+            (BadSize, count_rules, (2, 3, ("open", "open"))), (BadAxioms, can_add, (2, 3, ["open"])),
+            (BadAxioms, is_paper_of_none, (2, 3, ("open", "agreed"))), (BadRule, lies, (None, None, None)),
+            (BadRow, lies, (rule, None, None)), (NotAlike, lies, (rule, row + row[:1], None)),
+            (NotAlike, lies, ((0,) * 8, row, 7)), (BadPerson, lies, (rule, row, 2)),
+            (BadPerson, lies, (rule, row, True)), (BadRow, choice, (rule, row + row)),
+        ):
+            with self.subTest(call=call.__name__, arguments=arguments):
+                self.assertRaises(error, call, *arguments)
 
     def test_an_error_changes_nothing(self):
         before = [call(*arguments) for call, arguments in CALLS]
@@ -120,7 +193,17 @@ class LayoutTests(unittest.TestCase):
                 self.assertNotIsInstance(node, ast.Import)
                 if isinstance(node, ast.ImportFrom):
                     with self.subTest(file=name, module=node.module):
-                        self.assertTrue(node.module.startswith("voteclashes.") or node.module == "itertools")
+                        self.assertIn(node.module, ["itertools"] + [f"voteclashes.{module}" for module in INTERFACE])
+
+    def test_names_are_imported_from_where_they_are_defined(self):
+        for name, text in sources().items():
+            for node in ast.walk(ast.parse(text)):
+                if isinstance(node, ast.ImportFrom) and node.module != "itertools":
+                    body = ast.parse(sources()[node.module.rpartition(".")[2] + ".py"]).body
+                    defined = [one.name for one in body if isinstance(one, (ast.FunctionDef, ast.ClassDef))]
+                    defined += [one.targets[0].id for one in body if isinstance(one, ast.Assign)]
+                    with self.subTest(file=name, module=node.module):
+                        self.assertLessEqual({one.name for one in node.names}, set(defined))
 
 
 if __name__ == "__main__":

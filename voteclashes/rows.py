@@ -66,6 +66,11 @@ def first_things(row):
     return [ranking[0] for ranking in row]
 
 
+def with_item(items, index, item):
+    """The tuple with another item at an index, as when one person tells another ranking."""
+    return items[:index] + (item,) + items[index + 1:]
+
+
 def ahead(ranking, thing, other):
     """Whether a ranking has a thing ahead of another one."""
     return ranking.index(thing) < ranking.index(other)

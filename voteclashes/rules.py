@@ -1,7 +1,9 @@
 """Rules as tables, what they choose, who gains by them, and the nine told rules."""
 
 from voteclashes.errors import BadName, BadPerson, BadRule, NotAlike
-from voteclashes.rows import ahead, check_row, first_things, is_number_below, place_sums, rankings, rows
+from voteclashes.rows import (
+    ahead, check_row, first_things, is_number_below, place_sums, rankings, rows, with_item,
+)
 
 SIZE_BY_LENGTH = {4: (2, 2), 36: (2, 3), 8: (3, 2)}
 
@@ -44,8 +46,7 @@ def lies(rule, row, person):
         raise BadPerson("a person is a number from 0, below that of the people")
     found = []
     for ranking in rankings(len(row[person])):
-        told = row[:person] + (ranking,) + row[person + 1:]
-        if ahead(row[person], choice(rule, told), honest):
+        if ahead(row[person], choice(rule, with_item(row, person, ranking)), honest):
             found.append(ranking)
     return tuple(found)
 
