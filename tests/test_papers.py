@@ -327,6 +327,12 @@ class NearlyPapersTests(unittest.TestCase):
             self.assertIs(shows_clash(2, 2, wanted, value), is_paper((2, 2), wanted, value))
         self.assertIs(shows_clash(3, 2, ("people", "turned"), paper(2, 2, ("people", "turned"))), False)
 
+    def test_a_thing_left_nowhere_matters_if_open_is_wanted(self):
+        value = (rows(2, 3)[2], ((), (), ()))
+        self.assertIs(shows_clash(2, 3, ("pairs", "people", "tops"), value), False)
+        self.assertTrue(is_paper((2, 3), ("open", "pairs", "people", "tops"), value))
+        self.assertIs(shows_clash(2, 3, ("open", "pairs", "people", "tops"), value), True)
+
     def test_sets_that_some_rule_keeps(self):
         values = [()] + [paper(2, 3, wanted) for wanted in told_clashes(2, 3)[::6]]
         values += [(rows(*pair)[1], ((),) * many) for pair in SIZES for many in (1, 2, 3)]

@@ -97,7 +97,6 @@ class Board:
 
 def paper(people, things, wanted):
     """A paper that shows that no rule keeps all wanted axioms, None if some rule does."""
-    check_question(people, things, wanted)
     if can_hold(people, things, wanted):
         return None
     board = Board(people, things, wanted)
